@@ -1,0 +1,1 @@
+"""Functions that are written from sayings about whole numbers."""
