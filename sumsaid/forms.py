@@ -12,8 +12,6 @@ TRUE = 0
 FALSE = 1
 # Beyond this many steps a form counts as too large to be made; they take a few seconds.
 MOST_STEPS = 2000000
-# Forms are walked through by calls that are as deep as they are.
-MOST_DEEP = 60
 
 
 class Forms:
@@ -46,6 +44,10 @@ class Forms:
         """The numbers that a form is about, as a sum of powers of 2."""
         return self.used[form >> 1]
 
+    def depth_of(self, form):
+        """How deep forms are nested in a form."""
+        return self.depths[form >> 1]
+
     def kept(self, node, numbers, depth):
         """The form of a node that is written in its one way."""
         if node not in self.places:
@@ -73,8 +75,6 @@ class Forms:
         for part in parts:
             numbers |= self.used[part >> 1]
             depth = max(depth, self.depths[part >> 1] + 1)
-        if depth > MOST_DEEP:
-            raise TooLarge("what has to be made is nested too deep")
         return self.kept(("all", tuple(parts)), numbers, depth)
 
     def below(self, factors, bound):

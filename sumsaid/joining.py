@@ -2,6 +2,9 @@
 
 from sumsaid.forms import FALSE, TRUE
 
+# What is nested deeper is not made lighter: that is done by calls which are as deep as the forms.
+MOST_DEEP = 40
+
 
 def opposite(form):
     """The form that holds exactly where a form does not."""
@@ -155,7 +158,7 @@ class Gathering:
         while changed and not self.broken:
             changed = False
             for choice in list(self.choices):
-                lighter = self.lighter(choice)
+                lighter = self.lighter(choice) if self.forms.depth_of(choice) <= MOST_DEEP else choice
                 if lighter != choice:
                     del self.choices[choice]
                     self.take([lighter])

@@ -8,14 +8,24 @@ from sumsaid.placing import with_point
 from sumsaid.shortening import shortened
 from sumsaid.tracing import Trace
 
+# What is nested deeper is not taken apart: that is done by calls which are as deep as the forms.
+MOST_DEEP = 20
+
 
 class Plan:
-    """A way to remove a number: how many points have to be tried for it, and which ones, or its shadow."""
+    """A way to remove a number: its points or those of a sum of few values, another number, or its shadow.
+
+    `tries` tells how many points have to be tried, as far as the plans for several numbers are compared.
+    """
 
     def __init__(self, tries, view, way):
         self.tries = tries
         self.view = view
         self.way = way
+
+    def many(self):
+        """How many points there are."""
+        return 1 if self.way == "unit" else self.tries
 
     def points(self):
         """The points to be tried for the number."""
@@ -34,9 +44,10 @@ def plan_for(view):
     plan = Plan(view.many_points(), view, "points")
     span = view.narrowest()
     if span is not None and span[1] < plan.tries:
-        plan = Plan(span[1], view, "span")
-    if view.is_open() and view.repeat > 1 and view.unit() is not None:
-        plan = Plan(1, view, "unit")
+        return Plan(span[1], view, "span")
+    if view.repeat > 1 and view.unit() is not None:
+        # Where the number has bounds to both sides, as many points are to be tried after this as before it.
+        return Plan(1 if view.is_open() else plan.tries, view, "unit")
     return plan
 
 
@@ -85,12 +96,13 @@ class Remover:
     def worked_out(self, form, numbers):
         """What `without` gives for a form that is about all of the numbers."""
         self.forms.spend(1)
-        if is_choice(self.forms, form):
-            return self.some_without(choices_of(self.forms, form), numbers)
         parts = parts_of(self.forms, form)
-        groups = groups_of(self.forms, parts, numbers)
-        if len(groups) > 1:
-            return self.all_without(groups, numbers)
+        if self.forms.depth_of(form) <= MOST_DEEP:
+            if is_choice(self.forms, form):
+                return self.some_without(choices_of(self.forms, form), numbers)
+            groups = groups_of(self.forms, parts, numbers)
+            if len(groups) > 1:
+                return self.all_without(groups, numbers)
         if self.forms.numbers_of(form) == numbers and numbers & (numbers - 1) == 0:
             trace = Trace(self.forms, form, numbers.bit_length() - 1)
             if trace.is_feasible():
@@ -135,7 +147,7 @@ class Remover:
         others = [part for part in parts if self.forms.numbers_of(part) & mask == 0]
         if plan.way == "shadow":
             return self.without(all_of(self.forms, view.shadow() + others), numbers)
-        if not self.forms.can_spend(plan.tries * view.size):
+        if not self.forms.can_spend(plan.many()):
             raise TooLarge("too many points have to be tried")
         found = []
         for point in plan.points():

@@ -113,12 +113,13 @@ class Joined(unittest.TestCase):
         with self.assertRaises(TooLarge):
             self.forms.spend(MOST_STEPS + 1)
 
-    def test_too_deep(self):
+    def test_deep_forms(self):
         form = self.low
-        with self.assertRaises(TooLarge):
-            for k in range(500):
-                # Neither of the two follows from the other one, so each step nests deeper.
-                form = opposite(all_of(self.forms, [form, self.forms.rest((0, k + 1, 1), 997, (k,))]))
+        for k in range(500):
+            # Neither of the two follows from the other one, so each step nests deeper.
+            form = opposite(all_of(self.forms, [form, self.forms.rest((0, k + 1, 1), 997, (k,))]))
+        self.assertGreater(self.forms.depth_of(form), 400)
+        self.assertEqual(self.forms.numbers_of(Remover(self.forms).without(form, 1)), 6)
 
 
 class Placed(unittest.TestCase):

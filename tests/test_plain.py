@@ -1,8 +1,10 @@
 """Promise 7: a plain saying that says the same."""
 
 import itertools
+import random
 import unittest
 
+from sumsaid.patterns import is_in, pattern_of
 from sumsaid.sayings import decide, is_plain, plain, says
 
 BETWEEN = (("below", (1, 0, -3), 1), ("below", (0, -1, 3), 1), ("both", 0, 1), ("there", 2))
@@ -101,6 +103,25 @@ class Plain(unittest.TestCase):
             lines.append(("both", 2 * k + 1, 2 * k + 1))
         self.assertIs(says(plain(tuple(lines), 1), (-1,)), True)
         self.assertIs(says(plain(tuple(lines + [("there", len(lines) - 1)]), 1), (-1,)), True)
+
+    def test_sayings_that_are_nested_very_deep(self):
+        dice = random.Random(51)
+        for _ in range(3):
+            lines = [("below", (1, 1), 0)]
+            for k in range(400):
+                modulus = dice.randint(2, 5)
+                line = dice.choice([("below", (dice.randint(-2, 2), dice.choice([-1, 1])), dice.randint(-60, 60)),
+                                    ("rest", (1, dice.randint(-1, 1)), modulus, dice.randrange(modulus))])
+                lines += [("not", len(lines) - 1), line, ("both", len(lines), len(lines) + 1)]
+            saying = tuple(lines)
+            last = len(lines) - 1
+            for x in range(-5, 6):
+                there = any(says(saying, (x, y)) for y in range(-150, 151))
+                self.assertIs(says(saying + (("there", last),), (x,)), there)
+                every = all(says(saying, (x, y)) for y in range(-150, 151))
+                self.assertIs(says(saying + (("not", last), ("there", last + 1), ("not", last + 2)), (x,)), every)
+                pattern = pattern_of(saying, (x,))
+                self.assertTrue(all(is_in(pattern, y) is says(saying, (x, y)) for y in range(-200, 201)))
 
 
 if __name__ == "__main__":
