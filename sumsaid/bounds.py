@@ -8,21 +8,21 @@ from sumsaid.placing import FarPoint, Point
 
 
 class Bound:
-    """A comparison that bounds a number: the sum with the factors is at least `least`.
+    """A comparison that bounds a number: the sum with the factors is at least `level`.
 
     `times` is the factor of the number: positive if the number is bounded from below.
     """
 
-    def __init__(self, factors, least, times):
+    def __init__(self, factors, level, times):
         self.factors = factors
-        self.least = least
+        self.level = level
         self.times = times
 
-    def point(self, number, further):
-        """Where the sum is `least + further`."""
+    def point_at(self, number, further):
+        """Where the sum is `level + further`."""
         sign = 1 if self.times > 0 else -1
         factors = combined(without_factor(self.factors, number), -sign, (), 0)
-        return Point(factors, sign * (self.least + further), abs(self.times))
+        return Point(factors, sign * (self.level + further), abs(self.times))
 
 
 def bound_of(node, sign, number):
@@ -88,7 +88,7 @@ class View:
         for low in self.lowers:
             for high in self.uppers:
                 factors = combined(low.factors, -high.times, high.factors, low.times)
-                least = -high.times * low.least + low.times * high.least
+                least = -high.times * low.level + low.times * high.level
                 found.append(opposite(self.forms.below(factors, least)))
         return found
 
@@ -115,7 +115,7 @@ class View:
         known = {}
         for bound in bounds:
             for further in range(self.repeat * abs(bound.times)):
-                point = bound.point(self.number, further)
+                point = bound.point_at(self.number, further)
                 key = (point.factors, point.constant, point.divisor)
                 if key not in known:
                     known[key] = True
@@ -133,10 +133,10 @@ class View:
             bound = bound_of(node, part & 1, self.number)
             opposed = combined(bound.factors, -1, (), 0)
             if opposed in least:
-                many = 1 - least[opposed] - bound.least
+                many = 1 - least[opposed] - bound.level
                 if found is None or many < found[1]:
                     found = (bound, many)
-            least[bound.factors] = bound.least
+            least[bound.factors] = bound.level
         return found
 
     def unit(self):

@@ -35,18 +35,18 @@ class Reader:
     def __init__(self, forms, saying, values):
         self.forms = forms
         self.remover = Remover(forms)
-        self.saying = saying
+        self.lines = saying
         self.worths = values
         # For a line and a number of numbers: a form, and the numbers (a sum of powers of 2) that it asks for.
         self.told = {}
 
     def read(self, count):
         """The form of the saying, about `count` numbers."""
-        depths = depths_of(self.saying, count)
-        for index, line in enumerate(self.saying):
+        depths = depths_of(self.lines, count)
+        for index, line in enumerate(self.lines):
             for depth in depths[index]:
                 self.told[(index, depth)] = self.told_by(line, depth)
-        return self.settled(len(self.saying) - 1, count)
+        return self.settled(len(self.lines) - 1, count)
 
     def told_by(self, line, depth):
         """The form of a line with so many numbers, and what it asks for."""

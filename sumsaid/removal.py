@@ -31,7 +31,7 @@ class Plan:
         """The points to be tried for the number."""
         if self.way == "span":
             bound, many = self.view.narrowest()
-            return [bound.point(self.view.number, further) for further in range(many)]
+            return [bound.point_at(self.view.number, further) for further in range(many)]
         if self.way == "unit":
             return [self.view.unit()]
         return self.view.points()

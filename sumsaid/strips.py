@@ -126,3 +126,39 @@ def pieces_of(pattern):
         pieces.append((start + len(middle), anchored(bits_of(middle), start, len(middle)), len(middle)))
     pieces.append((None, bits_of(right), len(right)))
     return pieces
+
+
+def nearest_to_zero(pieces):
+    """The number of the pieces whose distance from 0 is the least, the greater one of two, or None."""
+    above = first_from_zero(pieces)
+    under = last_below_zero(pieces)
+    if above is None or under is None:
+        return under if above is None else above
+    return above if above <= -under else under
+
+
+def first_from_zero(pieces):
+    """The least number of the pieces that is not below 0, or None."""
+    low = 0
+    for high, bits, width in pieces:
+        if high is None or high > low:
+            found = window(bits, width, low, width if high is None else min(width, high - low))
+            if found != 0:
+                return low + (found & -found).bit_length() - 1
+            low = high
+    return None
+
+
+def last_below_zero(pieces):
+    """The greatest number of the pieces that is below 0, or None."""
+    end = 0
+    for k in range(len(pieces) - 1, -1, -1):
+        _, bits, width = pieces[k]
+        low = pieces[k - 1][0] if k > 0 else None
+        if low is None or low < end:
+            length = width if low is None else min(width, end - low)
+            found = window(bits, width, end - length, length)
+            if found != 0:
+                return end - length + found.bit_length() - 1
+            end = low
+    return None

@@ -6,9 +6,13 @@ import inspect
 import pathlib
 import unittest
 
+import sumsaid.book
 import sumsaid.errors
+import sumsaid.functions
+import sumsaid.notation
 import sumsaid.patterns
 import sumsaid.sayings
+import sumsaid.shapes
 
 PACKAGE = pathlib.Path(sumsaid.errors.__file__).parent
 ALLOWED = set("""len range enumerate zip min max sum abs sorted reversed int str bool list tuple dict set isinstance ord
@@ -28,6 +32,13 @@ def files():
 
 def trees():
     return [(path, ast.parse(path.read_text())) for path in files()]
+
+
+def is_plain_value(node):
+    """Whether a value at module level is a literal, or a dict of literals."""
+    if isinstance(node, ast.Dict):
+        return all(isinstance(part, ast.Constant) for part in node.keys + node.values)
+    return isinstance(node, ast.Constant)
 
 
 def names_bound(function):
@@ -65,7 +76,7 @@ class Code(unittest.TestCase):
                     self.assertEqual(k, 0, path.name)
                     self.assertIsInstance(node.value, ast.Constant)
                 elif isinstance(node, ast.Assign):
-                    self.assertIsInstance(node.value, ast.Constant, (path.name, node.lineno))
+                    self.assertTrue(is_plain_value(node.value), (path.name, node.lineno))
                 else:
                     self.assertIsInstance(node, (ast.ImportFrom, ast.FunctionDef, ast.ClassDef), path.name)
             self.assertIsNotNone(ast.get_docstring(tree), path.name)
@@ -183,6 +194,11 @@ class Interface(unittest.TestCase):
     def test_functions_stand_where_they_are_listed(self):
         listed = {
             sumsaid.sayings: {"is_saying": 1, "is_plain": 1, "says": 2, "decide": 1, "plain": 2},
+            sumsaid.functions: {"least_from": 3, "greatest_to": 3, "lowest": 2, "highest": 2, "best_sum": 4, "value": 2,
+                                "graph": 2, "domain": 2, "restricted": 3, "either": 2, "inverse": 2, "composed": 3,
+                                "some_values": 2, "parting": 3, "judge": 4},
+            sumsaid.shapes: {"shape_of": 1, "value_at": 2, "is_rising": 1, "image": 1},
+            sumsaid.notation: {"format_saying": 1, "parse_saying": 1},
             sumsaid.patterns: {"pattern_of": 2, "is_in": 2, "beside": 1, "union": 2, "meet": 2, "moved": 3,
                                "next_from": 2, "next_to": 2, "nearest": 2, "count_in": 3},
         }
@@ -191,6 +207,13 @@ class Interface(unittest.TestCase):
                 function = getattr(module, name)
                 self.assertEqual(function.__module__, module.__name__)
                 self.assertEqual(len(inspect.signature(function).parameters), many, name)
+
+    def test_the_book_has_its_methods_itself(self):
+        methods = {"keep": 4, "drop": 2, "undo": 1, "redo": 1, "names": 1, "saying": 2, "least": 4, "solutions": 3,
+                   "made": 1}
+        for name, many in methods.items():
+            self.assertEqual(len(inspect.signature(vars(sumsaid.book.Book)[name]).parameters), many, name)
+        self.assertEqual(sumsaid.book.Book.__module__, "sumsaid.book")
 
     def test_errors_stand_where_they_are_listed(self):
         for name in ("SumsaidError", "TooLarge", "InvalidWord", "UnknownName", "NotFitting"):
