@@ -6,6 +6,7 @@ import unittest
 
 from sumsaid.atoms import inverse_of, neat_below, neat_rest, prime_divisors
 from sumsaid.bounds import View
+from sumsaid.cases import is_equal, is_less, number_point, put_in
 from sumsaid.errors import TooLarge
 from sumsaid.forms import FALSE, MOST_STEPS, TRUE, Forms
 from sumsaid.joining import all_of, opposite, parts_of, some_of
@@ -14,9 +15,11 @@ from sumsaid.reading import Reader, Writer
 from sumsaid.removal import Remover, groups_of
 from sumsaid.sayings import says
 from sumsaid.shortening import shortened
-from sumsaid.strips import anchored, bits_of, row_of, shortest, stretched, window
+from sumsaid.patterns import nearest
+from sumsaid.solving import best_cases
+from sumsaid.strips import anchored, bits_of, nearest_to_zero, pieces_of, row_of, shortest, stretched, window
 from sumsaid.tracing import Trace
-from tests.trying import small, trial
+from tests.trying import random_pattern, small, trial
 
 
 def total(factors, values):
@@ -262,6 +265,47 @@ class Strips(unittest.TestCase):
                     for y in range(start, high if high is not None else start + 30):
                         self.assertIs(bits >> (y % width) & 1 == 1, says(lines, (y,)))
                     low = high
+
+    def test_nearest_to_zero(self):
+        dice = random.Random(50)
+        for _ in range(500):
+            pattern = random_pattern(dice)
+            self.assertEqual(nearest_to_zero(pieces_of(pattern)), nearest(pattern, 0), pattern)
+        self.assertIsNone(nearest_to_zero([(-10 ** 30, 0, 1), (None, 0, 5)]))
+        # As near to both sides: the greater one.
+        self.assertEqual(nearest_to_zero([(1 - 10 ** 30, 1, 1), (10 ** 30, 0, 1), (None, 1, 1)]), 10 ** 30)
+        self.assertEqual(nearest_to_zero([(-10 ** 30, 1, 1), (10 ** 30 + 2, 0, 1), (None, 1, 1)]), -10 ** 30 - 1)
+
+
+class Points(unittest.TestCase):
+    def test_comparisons_of_points(self):
+        dice = random.Random(51)
+        forms = Forms()
+        for _ in range(300):
+            points = [Point((dice.randint(-3, 3),), dice.randint(-6, 6), dice.randint(1, 4)) for _ in range(2)]
+            x = dice.randint(-9, 9)
+            # The points as numbers with a common divisor.
+            first, second = [(point.factors[0] * x + point.constant) * (12 // point.divisor) for point in points]
+            less = with_point(forms, [is_less(forms, points[0], points[1])], 0, Point((), x, 1))
+            equal = with_point(forms, [is_equal(forms, points[0], points[1])], 0, Point((), x, 1))
+            self.assertEqual((less == TRUE, equal == TRUE), (first < second, first == second))
+
+    def test_a_point_in_a_point(self):
+        inner = Point((3,), 1, 2)
+        # (4 * x1 + x0 + 5) / 3 with (3 * x0 + 1) / 2 for x1.
+        both = put_in(Point((1, 4), 5, 3), 1, inner)
+        self.assertEqual((both.factors, both.constant, both.divisor), ((7,), 7, 3))
+        same = put_in(Point((1,), 5, 3), 1, inner)
+        self.assertEqual((same.factors, same.constant, same.divisor), ((1,), 5, 3))
+        self.assertEqual(number_point(2).factors, (0, 0, 1))
+
+    def test_cases_of_a_sum_of_few_values(self):
+        # The number itself is bounded by a remainder that takes long to repeat, but it has only two values.
+        forms = Forms()
+        rest = forms.rest((1,), 997, (5,))
+        two = [opposite(forms.below((1,), 1000)), forms.below((1,), 1003)]
+        cases = best_cases(forms, [all_of(forms, [rest] + two)], 0, "least")
+        self.assertEqual([(case.form, case.point.constant) for case in cases], [(TRUE, 1002)])
 
 
 if __name__ == "__main__":

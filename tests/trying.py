@@ -1,4 +1,6 @@
-"""What sayings say by plain trying of all numbers of a range, and small sayings to be tried."""
+"""What sayings say by plain trying of all numbers of a range, and small sayings and functions to be tried."""
+
+from sumsaid.functions import greatest_to, least_from
 
 
 def source(saying, index, depth, reach):
@@ -165,3 +167,66 @@ def fault_of(pattern):
         return "the last number of middle is as right says" if middle[-1] == right[last % len(right)] else None
     # Without a middle, start is one more than the greatest number that is not as right says.
     return "start is too late" if left[(start - 1) % len(left)] == right[(start - 1) % len(right)] else None
+
+
+def some_sum(random, count):
+    """A sum of given numbers as small sayings have them, also with fewer factors, or with more than there are numbers."""
+    size = random.choice([count, count, count + 2, random.randint(0, count)])
+    return tuple([random.randint(-2, 2) for _ in range(size)]), random.randint(-20, 20)
+
+
+def sum_worth(total, values):
+    """The value of a sum: factors of numbers that are not there count for nothing."""
+    return sum(factor * value for factor, value in zip(total[0], values)) + total[1]
+
+
+def some_given(random, count, most=12):
+    """Values of given numbers."""
+    return tuple([random.randint(-most, most) for _ in range(count)])
+
+
+def first_solution(holds, given, bound, step):
+    """The first solution from a bound on, upwards (step 1) or downwards (step -1), or None.
+
+    The range is enough for small sayings of at most two given numbers from -12 to 12.
+    """
+    for y in range(bound, bound + 200 * step, step):
+        if holds(*given, y):
+            return y
+    return None
+
+
+def plain_value(function, given):
+    """The value of a function, word by word as the document says."""
+    worths = []
+    for condition, factors, constant, divisor in function[1]:
+        if trial(condition, len(given), {})(*given):
+            worths.append(sum_worth((factors, constant), given) // divisor)
+    if not worths:
+        return None
+    return min(worths) if function[0] == "least" else max(worths)
+
+
+def fault_of_cases(function, given, is_solution):
+    """Why the cases of a function that hold for values are not right, or None."""
+    for condition, factors, constant, divisor in function[1]:
+        if any(line[0] == "there" for line in condition):
+            return "a condition is not plain"
+        if not isinstance(divisor, int) or divisor < 1:
+            return "a divisor is less than 1"
+        if trial(condition, len(given), {})(*given):
+            total = sum_worth((factors, constant), given)
+            if total % divisor != 0:
+                return "a sum leaves a remainder"
+            if not is_solution(total // divisor):
+                return "a case gives what is no solution"
+    return None
+
+
+def some_function(random, count, most=19):
+    """A function that is made of a small saying of at most two comparisons or remainders."""
+    while True:
+        way = least_from if random.random() < 0.5 else greatest_to
+        function = way(tuple(small(random, count, 1, 2)), count, some_sum(random, count))
+        if len(function[1]) <= most:
+            return function
