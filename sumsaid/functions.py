@@ -5,12 +5,12 @@ from sumsaid.cases import (
     read_cases, sum_point, write_cases,
 )
 from sumsaid.forms import FALSE, Forms
-from sumsaid.joining import all_of, opposite, some_of
+from sumsaid.joining import all_of, choices_of, opposite, some_of
 from sumsaid.placing import Point, with_point
 from sumsaid.reading import Reader, Writer
 from sumsaid.removal import Remover
 from sumsaid.sayings import says_plainly, worth
-from sumsaid.solving import best_cases, goes_on, limited, split
+from sumsaid.solving import best_cases, goes_on, limited
 from sumsaid.strips import nearest_to_zero
 from sumsaid.tracing import Trace
 
@@ -62,7 +62,7 @@ def best_sum(saying, count, sought, goal):
 def extreme(forms, form, number, kind):
     """A plain saying, whether a form goes on far away, and the function of its least or greatest number."""
     far = Writer(forms).write(goes_on(forms, form, number, kind))
-    return far, write_cases(forms, kind, best_cases(forms, split(forms, form), number, kind))
+    return far, write_cases(forms, kind, best_cases(forms, choices_of(forms, form), number, kind))
 
 
 def value(function, values):

@@ -33,7 +33,7 @@ def parts_of(forms, form):
 
 
 def choices_of(forms, form):
-    """The parts of which one holds where a form holds."""
+    """The parts of which one holds where a form holds: the form alone if it is not made of several ones."""
     return [opposite(part) for part in parts_of(forms, opposite(form))]
 
 

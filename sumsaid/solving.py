@@ -4,7 +4,7 @@ from sumsaid.bounds import View, points_at
 from sumsaid.cases import Case, neat_point
 from sumsaid.errors import TooLarge
 from sumsaid.forms import FALSE
-from sumsaid.joining import all_of, choices_of, is_choice, parts_of, some_of
+from sumsaid.joining import all_of, choices_of, parts_of, some_of
 from sumsaid.placing import FarPoint, with_point
 from sumsaid.removal import Remover
 
@@ -54,14 +54,9 @@ def candidates(view, kind):
     return found
 
 
-def split(forms, form):
-    """Forms of which one holds where a form does."""
-    return choices_of(forms, form) if is_choice(forms, form) else [form]
-
-
 def limited(forms, form, limit):
     """Forms of which one holds where a form and a limit do."""
-    return [all_of(forms, [choice, limit]) for choice in split(forms, form)]
+    return [all_of(forms, [choice, limit]) for choice in choices_of(forms, form)]
 
 
 def goes_on(forms, form, number, kind):

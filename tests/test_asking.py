@@ -8,7 +8,7 @@ from sumsaid.functions import greatest_to, judge, least_from, parting, some_valu
 from sumsaid.sayings import says
 from tests.trying import (
     comparison, fault_of_cases, first_solution, of_theres, plain_value, shifted, small, some_factors, some_function,
-    some_given, some_sum, sum_worth, trial,
+    some_given, some_sum, sum_worth, trial, widened, widened_function,
 )
 
 ALWAYS = (("below", (), 1),)
@@ -60,7 +60,7 @@ class SomeValues(unittest.TestCase):
         dice = random.Random(31)
         for _ in range(250):
             count = dice.choice((0, 1, 1, 2))
-            saying = tuple(small(dice, count, 0))
+            saying = widened(dice, small(dice, count, 0), count)
             holds = trial(saying, count, {})
             found = some_values(saying, count)
             tried = next((given for given in itertools.product(near(40), repeat=count) if holds(*given)), None)
@@ -250,7 +250,7 @@ class Judge(unittest.TestCase):
         dice = random.Random(35)
         for _ in range(150):
             count = dice.choice((0, 1, 1, 2))
-            saying, floor = tuple(small(dice, count, 1, 2)), some_sum(dice, count)
+            saying, floor = widened(dice, small(dice, count, 1, 2), count + 1), some_sum(dice, count)
             self.assertTrue(judge(saying, count, floor, least_from(saying, count, floor)), (saying, count, floor))
             roof = greatest_to(saying, count, floor)
             self.assertFalse(judge(saying, count, floor, roof), (saying, count, floor))
@@ -260,11 +260,11 @@ class Judge(unittest.TestCase):
         tried = {True: 0, False: 0}
         while min(tried.values()) < 60:
             count = dice.choice((0, 1))
-            saying, floor = tuple(small(dice, count, 1, 2)), some_sum(dice, count)
+            saying, floor = widened(dice, small(dice, count, 1, 2), count + 1), some_sum(dice, count)
             function = least_from(saying, count, floor)
             if len(function[1]) > 2:
                 continue
-            function = changed(dice, function, count)
+            function = widened_function(dice, changed(dice, function, count), count)
             right = is_right(saying, count, floor, function, 40)
             tried[right] += 1
             self.assertEqual(judge(saying, count, floor, function), right, (saying, count, floor, function))

@@ -2,15 +2,17 @@
 
 import random
 import unittest
+from unittest import mock
 
 from sumsaid.errors import TooLarge
 from sumsaid.functions import (
     best_sum, composed, domain, either, graph, greatest_to, highest, inverse, least_from, lowest, restricted, value,
 )
-from sumsaid.patterns import next_from, pattern_of
+from sumsaid.patterns import next_from, next_to, pattern_of
 from sumsaid.sayings import is_plain, says
 from tests.trying import (
     fault_of_cases, first_solution, of_theres, plain_value, small, some_function, some_given, some_sum, sum_worth, trial,
+    widened,
 )
 
 ALWAYS = (("below", (), 1),)
@@ -89,7 +91,7 @@ class Least(unittest.TestCase):
         dice = random.Random(14)
         for _ in range(250):
             count = dice.choice((0, 1, 1, 2))
-            saying, floor = tuple(small(dice, count, 1)), some_sum(dice, count)
+            saying, floor = widened(dice, small(dice, count, 1), count + 1), some_sum(dice, count)
             function = least_from(saying, count, floor)
             holds = trial(saying, count + 1, {})
             self.assertEqual(function[0], "least")
@@ -119,6 +121,25 @@ class Least(unittest.TestCase):
         for x in range(-30, 31):
             self.assertEqual(value(function, (x,)), -(-x // 3))
 
+    def test_greater_factors_of_the_sought_number(self):
+        dice = random.Random(13)
+        for _ in range(150):
+            count = dice.choice((0, 1))
+            lines = []
+            for _ in range(3):
+                factors, modulus = tuple([dice.randint(-3, 3) for _ in range(count + 1)]), dice.randint(2, 5)
+                lines.append(("below", factors, dice.randint(-20, 20)) if dice.random() < 0.6
+                             else ("rest", factors, modulus, dice.randrange(modulus)))
+            lines += [("both", 0, 1), ("not", 3), ("not", 2)]
+            saying = tuple(lines) + (("both", dice.choice((3, 4)), dice.choice((2, 5))),)
+            floor = some_sum(dice, count)
+            least, greatest = least_from(saying, count, floor), greatest_to(saying, count, floor)
+            for _ in range(4):
+                given = some_given(dice, count)
+                pattern, bound = pattern_of(saying, given), sum_worth(floor, given)
+                self.assertEqual(value(least, given), next_from(pattern, bound), (saying, count, floor, given))
+                self.assertEqual(value(greatest, given), next_to(pattern, bound), (saying, count, floor, given))
+
     def test_many_numbers(self):
         saying = (("below", (1, 2, -1, 1, 2, -1), 3), ("rest", (1, 1, 1, 1, 1, 1), 4, 2), ("both", 0, 1))
         function = least_from(saying, 5, ((1, 1, 1, 1, 1), 0))
@@ -130,6 +151,15 @@ class Least(unittest.TestCase):
     def test_too_large(self):
         with self.assertRaises(TooLarge):
             least_from((("rest", (1, 1), 10 ** 9, 0),), 1, ((), 0))
+
+    def test_too_many_lines(self):
+        saying, floor = (("rest", (1, 1), 3, 0),), ((1,), 0)
+        many = sum([len(case[0]) for case in least_from(saying, 1, floor)[1]])
+        with mock.patch("sumsaid.cases.MOST_LINES", many):
+            self.assertEqual(value(least_from(saying, 1, floor), (4,)), 5)
+        with mock.patch("sumsaid.cases.MOST_LINES", many - 1):
+            with self.assertRaises(TooLarge):
+                least_from(saying, 1, floor)
 
 
 class Greatest(unittest.TestCase):
@@ -147,7 +177,7 @@ class Greatest(unittest.TestCase):
         dice = random.Random(16)
         for _ in range(250):
             count = dice.choice((0, 1, 1, 2))
-            saying, roof = tuple(small(dice, count, 1)), some_sum(dice, count)
+            saying, roof = widened(dice, small(dice, count, 1), count + 1), some_sum(dice, count)
             function = greatest_to(saying, count, roof)
             holds = trial(saying, count + 1, {})
             self.assertEqual(function[0], "greatest")
@@ -188,7 +218,7 @@ class Extremes(unittest.TestCase):
         dice = random.Random(17)
         for _ in range(250):
             count = dice.choice((0, 1, 1, 2))
-            saying = tuple(small(dice, count, 1))
+            saying = widened(dice, small(dice, count, 1), count + 1)
             holds = trial(saying, count + 1, {})
             low, low_function = lowest(saying, count)
             high, high_function = highest(saying, count)
@@ -242,7 +272,7 @@ class BestSum(unittest.TestCase):
         dice = random.Random(18)
         for _ in range(200):
             count = dice.choice((0, 1, 2))
-            saying = tuple(small(dice, count, 1))
+            saying = widened(dice, small(dice, count, 1), count + 1)
             goal = tuple([dice.randint(-2, 2) for _ in range(count)]) + (dice.randint(-1, 1),), dice.randint(-20, 20)
             far, function = best_sum(saying, count, 1, goal)
             self.assertTrue(is_plain(far))
@@ -294,7 +324,7 @@ class OfFunctions(unittest.TestCase):
         dice = random.Random(20)
         for _ in range(120):
             count = dice.choice((0, 1, 1, 2))
-            function, saying = some_function(dice, count), tuple(small(dice, count, 0, 2))
+            function, saying = some_function(dice, count), widened(dice, small(dice, count, 0, 2), count)
             less = restricted(function, saying, count)
             self.assertEqual(less[0], function[0])
             holds = trial(saying, count, {})
@@ -337,6 +367,12 @@ class Inverse(unittest.TestCase):
         # A floor that depends on the value, also with factors of numbers that are not there.
         self.assertEqual([value(inverse(up, ((1, 7, 7), 0)), (y,)) for y in (-2, 3, 8)], [-2, None, 8])
         self.assertIsNone(value(inverse(up, ((1,), 1)), (8,)))
+
+    def test_cases_that_hold_together(self):
+        cases = ((ALWAYS, (1,), 0, 1), (ALWAYS, (), 5, 1))
+        least, greatest = (inverse((kind, cases), ((), -50)) for kind in ("least", "greatest"))
+        self.assertEqual([value(least, (y,)) for y in (3, 4, 5, 6)], [3, 4, 5, None])
+        self.assertEqual([value(greatest, (y,)) for y in (4, 5, 6, 7)], [None, -50, 6, 7])
 
     def test_a_value_that_goes_on(self):
         five = ("least", ((ALWAYS, (), 5, 1),))

@@ -169,6 +169,31 @@ def fault_of(pattern):
     return "start is too late" if left[(start - 1) % len(left)] == right[(start - 1) % len(right)] else None
 
 
+def widened(random, lines, count):
+    """Lines with factors for numbers that are not there: they count for nothing."""
+    found = []
+    for line in lines:
+        if line[0] in ("below", "rest") and random.random() < 0.3:
+            line = (line[0], wider(random, line[1], count)) + line[2:]
+        found.append(line)
+    return tuple(found)
+
+
+def wider(random, factors, count):
+    """Factors with further ones for numbers that are not there."""
+    padded = tuple(factors[:count]) + (0,) * (count - len(factors))
+    return padded + tuple([random.choice((-2, -1, 1, 2)) for _ in range(random.randint(1, 2))])
+
+
+def widened_function(random, function, count):
+    """A function with factors for numbers that are not there."""
+    cases = []
+    for condition, factors, constant, divisor in function[1]:
+        factors = wider(random, factors, count) if random.random() < 0.3 else factors
+        cases.append((widened(random, condition, count), factors, constant, divisor))
+    return function[0], tuple(cases)
+
+
 def some_sum(random, count):
     """A sum of given numbers as small sayings have them, also with fewer factors, or with more than there are numbers."""
     size = random.choice([count, count, count + 2, random.randint(0, count)])
@@ -229,4 +254,4 @@ def some_function(random, count, most=19):
         way = least_from if random.random() < 0.5 else greatest_to
         function = way(tuple(small(random, count, 1, 2)), count, some_sum(random, count))
         if len(function[1]) <= most:
-            return function
+            return widened_function(random, function, count)
