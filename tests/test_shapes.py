@@ -6,7 +6,7 @@ from fractions import Fraction
 from math import gcd
 
 from sumsaid.errors import TooLarge
-from sumsaid.functions import either, graph, least_from, parting, restricted
+from sumsaid.functions import either, graph, least_from, parting, restricted, value
 from sumsaid.shapes import image, is_rising, shape_of, value_at
 from tests.trying import fault_of, holds_in, plain_value, some_function
 
@@ -146,6 +146,22 @@ class Shapes(unittest.TestCase):
             for x in list(range(-40, 41, dice.randint(1, 5))) + list(range(start - 3, start + len(middle) + 3)) + further:
                 self.assertEqual(value_at(shape, x), plain_value(function, (x,)), (function, x))
 
+    def test_lines_that_cross_far_away(self):
+        dice = random.Random(29)
+        for _ in range(200):
+            cases = []
+            for _ in range(dice.randint(2, 4)):
+                factor, constant, divisor = dice.randint(-3, 3), dice.randint(-200, 200), dice.randint(1, 3)
+                condition = (("rest", (factor,), divisor, -constant % divisor),)
+                cases.append((condition, (factor,), constant, divisor))
+            function = dice.choice(("least", "greatest")), tuple(cases)
+            shape = shape_of(function)
+            self.assertIsNone(fault_of_shape(shape), function)
+            _, start, middle, _ = shape
+            numbers = list(range(-1300, 1301, dice.randint(3, 9))) + list(range(start - 30, start + 31))
+            for x in numbers + list(range(start + len(middle) - 10, start + len(middle) + 30)):
+                self.assertEqual(value_at(shape, x), value(function, (x,)), (function, x))
+
     def test_the_same_shape_if_and_only_if_nowhere_different(self):
         dice = random.Random(26)
         same = 0
@@ -202,6 +218,14 @@ class Rising(unittest.TestCase):
         self.assertFalse(is_rising((((1, 1, 0, 1), (2, 1, 9, 1)), -99, (), (None,))))
         self.assertFalse(is_rising(((None,), 1000, (), ((2, 1, 0, 1), (1, 1, 900, 1)))))
 
+    def test_lines_that_come_apart_late(self):
+        # On twice as many numbers as there are lines the values rise; further away they do not.
+        self.assertFalse(is_rising(((None,), 0, (), ((1, 1, 0, 1), (2, 1, -2, 1)))))
+        self.assertFalse(is_rising((((1, 1, 0, 1), (2, 1, 2, 1)), 1, (), (None,))))
+        self.assertFalse(is_rising(((None,), 0, (), ((1, 2, 0, 1), (1, 1, -1, 1)))))
+        self.assertTrue(is_rising(((None,), 0, (), ((1, 2, 0, 1), (1, 2, -1, 2)))))
+        self.assertTrue(is_rising(((None,), 0, (), ((1, 2, 0, 1), None, None))))
+
     def test_where_parts_meet(self):
         rising = ((1, 1, 0, 1),)
         self.assertTrue(is_rising((rising, 4, (3, 3), rising)))
@@ -247,6 +271,21 @@ class Image(unittest.TestCase):
         self.assertEqual(image(((None,), 5, (), ((-3, 1, 0, 1),))), ((True, False, False), -14, (), (False,)))
         self.assertEqual(image((((2, 1, 0, 1),), 5, (), (None,))), ((True, False), 9, (), (False,)))
         self.assertEqual(image((((-2, 1, 0, 1),), 5, (), (None,))), ((False,), -9, (), (True, False)))
+
+    def test_lines_with_the_same_values_further_on(self):
+        # Even numbers from 0 on, and again from 12 on; and the same downwards.
+        up = ((False,), -1, (), (True, False))
+        self.assertEqual(image(((None,), 0, (), ((1, 1, 0, 1), (1, 1, 11, 1)))), up)
+        self.assertEqual(image(((None,), 0, (), ((1, 1, 12, 1), (1, 1, -1, 1)))), up)
+        down = ((True, False), 1, (), (False,))
+        self.assertEqual(image(((None,), 0, (), ((-1, 1, 0, 1), (-1, 1, -11, 1)))), down)
+        self.assertEqual(image(((None,), 0, (), ((-1, 1, -12, 1), (-1, 1, 1, 1)))), down)
+
+    def test_a_long_middle(self):
+        values = [1000 * k for k in range(50)] + [7, 8, 9, None, 7]
+        pattern = image(((None,), 5, tuple(values), (None,)))
+        self.assertEqual(pattern[:2], ((False,), 0))
+        self.assertEqual([k for k, there in enumerate(pattern[2]) if there], sorted(set(values) - {None}))
 
     def test_far_values(self):
         shape = (((1, 1, 0, 1),), 10 ** 30, (), (None,))
