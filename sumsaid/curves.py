@@ -71,8 +71,11 @@ class Curve:
     def first_other(self, lines):
         """The least number whose value is not that of the lines far below, or None."""
         for k, cut in enumerate(self.cuts):
+            # Two lines that agree for two numbers are the same one.
             end = cut + 2 * self.width
-            for x in range(cut, min(end, self.cuts[k + 1]) if k + 1 < len(self.cuts) else end):
+            if k + 1 < len(self.cuts):
+                end = min(end, self.cuts[k + 1])
+            for x in range(cut, end):
                 if self.worth(x) != worth_on(lines[x % len(lines)], x):
                     return x
         return None
@@ -80,9 +83,10 @@ class Curve:
     def last_other(self, lines):
         """The greatest number whose value is not that of the lines far above, or None."""
         for k in range(len(self.cuts) - 1, -1, -1):
-            cut = self.cuts[k]
-            end = cut - 2 * self.width
-            for x in range(cut - 1, (max(end, self.cuts[k - 1]) if k > 0 else end) - 1, -1):
+            start = self.cuts[k] - 2 * self.width
+            if k > 0:
+                start = max(start, self.cuts[k - 1])
+            for x in range(self.cuts[k] - 1, start - 1, -1):
                 if self.worth(x) != worth_on(lines[x % len(lines)], x):
                     return x
         return None

@@ -117,6 +117,11 @@ class Shapes(unittest.TestCase):
         shape = shape_of(("least", ((inner, (1,), 0, 1), (outer, (2,), -12, 1))))
         line = (2, 1, -12, 1)
         self.assertEqual(shape, ((line,), 10, tuple(range(10, 40)), (line,)))
+        for low, high, start, middle in ((12, 40, 13, range(13, 40)), (8, 13, 8, range(8, 12)), (12, 14, 13, (13,))):
+            inner = from_on(low) + below(high) + (("both", 0, 1),)
+            outer = inner + (("not", 2),)
+            shape = shape_of(("least", ((inner, (1,), 0, 1), (outer, (2,), -12, 1))))
+            self.assertEqual(shape, ((line,), start, tuple(middle), (line,)))
         inner = from_on(12) + below(13) + (("both", 0, 1),)
         outer = inner + (("not", 2),)
         self.assertEqual(shape_of(("least", ((inner, (1,), 0, 1), (outer, (2,), -12, 1)))), ((line,), 0, (), (line,)))
@@ -129,6 +134,10 @@ class Shapes(unittest.TestCase):
         self.assertEqual(shape_of(("least", ((from_on(far), (1,), 0, 1),))), ((None,), far, (), line))
 
     def test_too_large(self):
+        rests = [("least", (((("rest", (1,), modulus, 0),), (1,), 0, 1),)) for modulus in (1009, 1013)]
+        self.assertEqual(len(shape_of(rests[0])[0]), 1009)
+        with self.assertRaises(TooLarge):
+            shape_of(either(rests[0], rests[1]))
         with self.assertRaises(TooLarge):
             shape_of(("least", ((below(-10 ** 20), (1,), 0, 1), (from_on(10 ** 20), (1,), 0, 1))))
 
